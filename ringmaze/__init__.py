@@ -1,0 +1,1 @@
+"""Ringmaze: ways of one piece through rings."""
