@@ -1,4 +1,6 @@
-"""What several tests draw from: things of every kind, words, and ways to join ends."""
+"""What several tests draw from: things of every kind, words, ways to join ends, and mazes."""
+
+import itertools
 
 SIXTY_FIGURES = int("9" * 60)
 
@@ -11,6 +13,28 @@ THINGS = [
     [], [0], [1], [True], [None], [""], ["l"], ["()"], [[]], [()], [[[[[]]]]], ["l", []], ["l", (1,)],
     (), (0,), (1,), (2,), (True,), (None,), ("",), ("l",), ("()",), ([],), ((),), (((((),),),),), ("l", ()), ("l", (1,)),
     (1, 2), (0, 1), [(0, 1)], [[0, 1]], ((0, 1),), [(0, 1), None], [(0,)], [(0, 1, 2)],
+]
+
+NO_SIDES = ["", "L", "R", "lr", "rl", "ll", " l", "l ", "l\n", "left", "m", "|", 0, 1, True, False, None,
+            [], ["l"], ("l",), [["l"]], ("l", "r"), ()]
+UP = tuple(range(1, 21))
+NO_ORDERS = [
+    UP + (21,), tuple(range(1, 31)), UP + (20,), UP + (0,),
+    (0,), (2,), (-1,), (SIXTY_FIGURES,), (0, 1), (1, 3), (2, 3), (1, 1), (2, 2), (1, 2, 2), (3, 1, 3), (1, -2), (-1, -2),
+    UP[1:], UP[:10] + UP[11:], UP[:19] + (19,), UP[:19] + (21,), (0,) + UP[:19], (0,) + UP[1:],
+    UP[:19] + (SIXTY_FIGURES,), UP[:19] + (-20,),
+    (True,), (True, 2), (2, True), (False, 1), (False,), (True,) + UP[1:],
+    ("1",), (1, "2"), ("l",), ("",), (1, None), (None,), ((1,),), ([1],), (1, (2,)), (1, [2]), ((),), ([],),
+    [], [1], [2, 1], list(UP), "", "1", "12", 0, 1, 3, True, False, None,
+]
+NO_MAZES = (
+    [(side, (1,)) for side in NO_SIDES] + [(side, ()) for side in NO_SIDES]
+    + [(side, order) for side in ("l", "r") for order in NO_ORDERS]
+    + [thing for thing in THINGS if thing not in (("l", ()), ("l", (1,)))]
+) + [
+    ("l", (1,), ()), ("l", (1,), None), ("l", (1,), "l"), ("l", 1), ("l", 2, 1), ("l",), ((1,),), (),
+    ["l", (1,)], ["l", [1]], ("l", [1]), ((1,), "l"), (("l", (1,)),), [("l", (1,))], ("l", ("l", (1,))),
+    "l", "l1", "", None, True, False, 0, 1, [], ("", ()), (None, ()), ("l", None), ("l", ""),
 ]
 
 
@@ -71,3 +95,62 @@ def disorders(things):
         things[1::2] + things[0::2],
         list(reversed(things[1::2])) + things[0::2],
     ]
+
+
+def other(side):
+    return {"l": "r", "r": "l"}[side]
+
+
+def plain_bows(maze):
+    """The bows by side, in the order of the way, straight from the words of the document."""
+    side, order = maze
+    told = {"l": [], "r": []}
+    here = 0
+    for row in order + (len(order) + 1,):
+        told[side].append((here, row) if here < row else (row, here))
+        here, side = row, other(side)
+    return told
+
+
+def plain_crossings(maze):
+    """All that may be told of two bows that cross, by a plain look at each two of one side."""
+    told = []
+    for side, bows in plain_bows(maze).items():
+        for one, two in itertools.combinations(sorted(bows), 2):
+            if one[0] < two[0] < one[1] < two[1]:
+                told.append((side, one, two))
+    return told
+
+
+def plain_height(bow, bows):
+    """The height of a bow among those of its side, straight from the words of the document."""
+    within = [inner for inner in bows if bow[0] < inner[0] and inner[1] < bow[1]]
+    return 1 + max([plain_height(inner, bows) for inner in within], default=0)
+
+
+def mazes_of(rings):
+    """All mazes of so many rings, drawable or not."""
+    return [(side, order) for side in "lr" for order in itertools.permutations(range(1, rings + 1))]
+
+
+SHORT_MAZES = [maze for rings in range(7) for maze in mazes_of(rings)]
+SHORT_DRAWABLE = [maze for maze in SHORT_MAZES if not plain_crossings(maze)]
+SHORT_CROSSED = [maze for maze in SHORT_MAZES if plain_crossings(maze)]
+LONG_DRAWABLE = [
+    ("l", UP), ("r", UP), ("l", UP[:19]), ("l", UP[18::-1]), ("r", UP[18::-1]), ("r", UP[16::-1]),
+    ("l", (3, 2, 1, 4, 7, 6, 5)), ("r", (7, 6, 5, 2, 3, 4, 1, 8)),
+    ("l", (3, 8, 5, 6, 7, 4, 9, 2, 1, 10, 11)), ("r", (3, 6, 5, 4, 11, 10, 7, 2, 1, 8, 9, 12)),
+    ("l", (17, 6, 13, 14, 5, 4, 15, 8, 9, 10, 11, 12, 7, 16, 1, 2, 3, 18, 19)),
+    ("l", (1, 8, 13, 14, 15, 16, 7, 6, 17, 18, 5, 4, 19, 12, 9, 10, 11, 20, 3, 2)),
+    ("l", (11, 8, 9, 10, 7, 12, 13, 14, 15, 6, 3, 18, 19, 2, 1, 20, 17, 4, 5, 16)),
+    ("r", (5, 16, 17, 4, 3, 18, 13, 14, 15, 6, 7, 8, 9, 12, 19, 2, 1, 20, 11, 10)),
+    ("r", (1, 6, 17, 16, 7, 8, 15, 18, 5, 4, 19, 14, 9, 10, 13, 12, 11, 20, 3, 2)),
+    ("r", (3, 18, 7, 14, 11, 10, 15, 6, 19, 2, 1, 20, 5, 16, 9, 12, 13, 8, 17, 4)),
+    # As wide a drawing as there can be: ten bows within one another on each side.
+    ("l", (1, 20, 3, 18, 5, 16, 7, 14, 9, 12, 11, 10, 13, 8, 15, 6, 17, 4, 19, 2)),
+]
+LONG_CROSSED = [
+    ("l", UP[::-1]), ("r", UP[::-1]), ("l", UP[7:] + UP[:7]), ("r", UP[1::2] + UP[::2]), ("l", UP[::2] + UP[1::2]),
+    ("r", UP[:16] + (18, 17, 20, 19)), ("l", (2, 1) + UP[2:]), ("r", (2, 1) + UP[2:19]),
+]
+DRAWABLE = SHORT_DRAWABLE + LONG_DRAWABLE

@@ -3,7 +3,7 @@
 import itertools
 import unittest
 
-from samples import LONG_WORDS, disorders, joinings, words_of_length
+from samples import LONG_WORDS, disorders, joinings, plain_height, words_of_length
 from ringmaze.bows import crossing, heights
 from ringmaze.brackets import pairs
 
@@ -12,12 +12,6 @@ SHORT_WORDS = [word for length in range(0, 11, 2) for word in words_of_length(le
 
 def all_crossings(bows):
     return [((a, b), (c, d)) for a, b in bows for c, d in bows if a < c < b < d]
-
-
-def height(bow, bows):
-    """Straight from the words of the document."""
-    within = [other for other in bows if bow[0] < other[0] and other[1] < bow[1]]
-    return 1 + max([height(other, bows) for other in within], default=0)
 
 
 def heights_of_word(word):
@@ -119,7 +113,7 @@ class HeightsTest(unittest.TestCase):
     def test_the_words_of_the_document(self):
         for word in SHORT_WORDS:
             for bows in disorders(pairs(word)):
-                self.check(bows, [height(bow, bows) for bow in bows])
+                self.check(bows, [plain_height(bow, bows) for bow in bows])
 
     def test_every_order(self):
         for bows in itertools.permutations([(0, 11), (1, 4), (2, 3), (5, 6), (7, 10)]):
@@ -130,7 +124,7 @@ class HeightsTest(unittest.TestCase):
         numbers = [1, 2, 6, 13, 14, 22, 23, 24, 33, 40]
         for word in words_of_length(10):
             for bows in disorders(pairs(word)):
-                self.check(spread(bows, numbers), [height(bow, bows) for bow in bows])
+                self.check(spread(bows, numbers), [plain_height(bow, bows) for bow in bows])
 
     def test_twenty_bows(self):
         self.check([(a, 40 - a) for a in range(20)], list(range(20, 0, -1)))
