@@ -72,6 +72,47 @@ LONG_WORDS = (
     + [long_word(seed, length) for seed in range(1, 30) for length in (30, 38, 40)]
 )
 
+SHORT_PAIRS = [(left, right) for length in range(0, 9, 2)
+               for left in words_of_length(length) for right in words_of_length(length)]
+LONG_PAIRS = [(left, right) for left in LONG_WORDS[:20] for right in LONG_WORDS if len(left) == len(right) == 40]
+NO_WORDS = [thing for thing in THINGS if thing not in ("", "()")] + [
+    "(", ")", ")(", "(()", "())", "())(", "( )", "() ", " ()", "()\n", "(x)", "[]", "()" * 21, "(" * 21 + ")" * 21,
+    ["(", ")"], ("(", ")"), ["()"], [(0, 1)], ("()", "()"),
+]
+UNLIKE_PAIRS = [(left, right) for left in ["", "()", "(())", "()()()", "()" * 19, "()" * 20]
+                for right in ["", "()", "()()", "((()))", "(" * 19 + ")" * 19, "(" * 20 + ")" * 20]
+                if len(left) != len(right)]
+NO_PAIRS = (
+    [(thing, word) for thing in NO_WORDS for word in ("", "()", "()()")]
+    + [(word, thing) for thing in NO_WORDS for word in ("", "()", "()()")]
+    + [(thing, thing) for thing in NO_WORDS] + UNLIKE_PAIRS
+)
+
+
+def plain_partner(word, end):
+    """The other end of the bow of an end, by counting brackets from it on, or back from it."""
+    step = 1 if word[end] == "(" else -1
+    depth, here = step, end
+    while depth:
+        here += step
+        depth += 1 if word[here] == "(" else -1
+    return here
+
+
+def plain_rounds(left, right):
+    """The rounds of two words, walked end by end, straight from the words of the document."""
+    told = []
+    for least in range(len(left)):
+        if not any(least in ends for ends in told):
+            walked = [least]
+            for word in itertools.cycle((left, right)):
+                here = plain_partner(word, walked[-1])
+                if here == least:
+                    break
+                walked.append(here)
+            told.append(walked)
+    return told
+
 
 def joinings(ends):
     """All ways to join a list of ends, in rising order, two by two, crossing or not."""
