@@ -4,12 +4,7 @@ from ringmaze.bows import crossing, lies_within
 from ringmaze.brackets import MOST_SIGNS, pairs, word_of
 from ringmaze.errors import Crossed, NoBow, NoWord
 from ringmaze.rounds import rounds, vet_words
-from ringmaze.words import is_whole
-
-
-def is_below(thing, bound):
-    """Tell whether a thing is a whole number from 0 on and below a bound."""
-    return is_whole(thing) and 0 <= thing < bound
+from ringmaze.words import is_below
 
 
 def turn_of(one, two):

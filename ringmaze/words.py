@@ -10,6 +10,11 @@ def is_whole(thing):
     return isinstance(thing, int) and not isinstance(thing, bool)
 
 
+def is_below(thing, bound):
+    """Tell whether a thing is a whole number from 0 on and below a bound."""
+    return is_whole(thing) and 0 <= thing < bound
+
+
 def is_side(thing):
     """Tell whether a thing is a side."""
     return thing in SIDES

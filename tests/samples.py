@@ -1,4 +1,4 @@
-"""What several tests draw from: things of every kind, words, ways to join ends, and mazes."""
+"""What several tests draw from: things of every kind, words, ways to join ends, mazes, and pieces of ways."""
 
 import itertools
 
@@ -15,6 +15,8 @@ THINGS = [
     (1, 2), (0, 1), [(0, 1)], [[0, 1]], ((0, 1),), [(0, 1), None], [(0,)], [(0, 1, 2)],
 ]
 
+# Things that are no number at all; True and False stand for 1 and 0 in careless hands.
+NO_NUMBERS = [thing for thing in THINGS if type(thing) is not int] + ["0", "1", [0], (0,), [1], (0, 1), [[[[[0]]]]]]
 NO_SIDES = ["", "L", "R", "lr", "rl", "ll", " l", "l ", "l\n", "left", "m", "|", 0, 1, True, False, None,
             [], ["l"], ("l",), [["l"]], ("l", "r"), ()]
 UP = tuple(range(1, 21))
@@ -176,6 +178,8 @@ def mazes_of(rings):
 
 SHORT_MAZES = [maze for rings in range(7) for maze in mazes_of(rings)]
 SHORT_DRAWABLE = [maze for maze in SHORT_MAZES if not plain_crossings(maze)]
+SEVEN_RINGS = [maze for maze in mazes_of(7) if not plain_crossings(maze)]
+UP_TO_SEVEN = SHORT_DRAWABLE + SEVEN_RINGS
 SHORT_CROSSED = [maze for maze in SHORT_MAZES if plain_crossings(maze)]
 LONG_DRAWABLE = [
     ("l", UP), ("r", UP), ("l", UP[:19]), ("l", UP[18::-1]), ("r", UP[18::-1]), ("r", UP[16::-1]),
@@ -195,3 +199,71 @@ LONG_CROSSED = [
     ("r", UP[:16] + (18, 17, 20, 19)), ("l", (2, 1) + UP[2:]), ("r", (2, 1) + UP[2:19]),
 ]
 DRAWABLE = SHORT_DRAWABLE + LONG_DRAWABLE
+
+
+def plain_code(maze):
+    """The letters of the rings, straight from the words of the document."""
+    told = ""
+    for ring in range(1, len(maze[1]) + 1):
+        inwards = tuple(any(a == ring for a, b in plain_bows(maze)[side]) for side in "lr")
+        told += {(True, True): "a", (True, False): "b", (False, True): "c", (False, False): "d"}[inwards]
+    return told
+
+
+def plain_begun(side):
+    """The pieces behind row 0: the number of the piece of each bow that leads on, left and right, as a state has them."""
+    return ((0,), ()) if side == "l" else ((), (0,))
+
+
+def plain_step(pieces, letter):
+    """The pieces behind one more ring, or None where the letter can't be; the mouth's piece has the number 0."""
+    lefts, rights = list(pieces[0]), list(pieces[1])
+    ended = []
+    if letter in "cd":
+        if not lefts:
+            return None
+        ended.append(lefts.pop())
+    if letter in "bd":
+        if not rights:
+            return None
+        ended.append(rights.pop(0))
+    if len(ended) == 2 and ended[0] == ended[1]:
+        return None
+    number = min(ended, default=1 + max(lefts + rights, default=0))
+    lefts = [number if piece in ended else piece for piece in lefts]
+    rights = [number if piece in ended else piece for piece in rights]
+    if letter in "ab":
+        lefts.append(number)
+    if letter in "ac":
+        rights.insert(0, number)
+    return (tuple(lefts), tuple(rights))
+
+
+def plain_state(pieces):
+    """The text of the pieces."""
+    told, met = "", []
+    for piece in pieces[0] + ("|",) + pieces[1]:
+        told += "|" if piece == "|" else "*" if piece == 0 else ")" if piece in met else "("
+        met.append(piece)
+    return told
+
+
+def plain_reached(side, rows):
+    """The pieces of each state that is come to in up to so many rows, by its text."""
+    newest = {plain_state(plain_begun(side)): plain_begun(side)}
+    told = dict(newest)
+    for row in range(rows):
+        ahead = [plain_step(pieces, letter) for pieces in newest.values() for letter in "abcd"]
+        newest = {plain_state(pieces): pieces for pieces in ahead if pieces is not None}
+        told.update(newest)
+    return told
+
+
+def plain_fault(side, text):
+    """The `at` with which a text of at most twenty signs is refused, or None where it is a code."""
+    pieces = plain_begun(side)
+    for at, sign in enumerate(text):
+        pieces = plain_step(pieces, sign) if sign in "abcd" else None
+        if pieces is None:
+            return at
+    return None if len(pieces[0] + pieces[1]) == 1 else len(text)

@@ -3,15 +3,14 @@
 import copy
 import unittest
 
-from samples import (DRAWABLE, LONG_CROSSED, LONG_PAIRS, NO_MAZES, NO_PAIRS, SHORT_CROSSED, SHORT_DRAWABLE, SHORT_PAIRS,
-                     UP, mazes_of, plain_bows, plain_crossings, plain_partner, plain_rounds, words_of_length)
+from samples import (DRAWABLE, LONG_CROSSED, LONG_PAIRS, NO_MAZES, NO_PAIRS, SEVEN_RINGS, SHORT_CROSSED, SHORT_PAIRS, UP,
+                     UP_TO_SEVEN, plain_bows, plain_crossings, plain_partner, plain_rounds, words_of_length)
 from ringmaze.brackets import is_word
 from ringmaze.closing import closed, opened
 from ringmaze.errors import Crossed, NoMaze, NoRound, NoWord
 from ringmaze.mazes import vet
 from ringmaze.turning import mirrored
 
-SEVEN_RINGS = [maze for maze in mazes_of(7) if not plain_crossings(maze)]
 ALL_DRAWABLE = DRAWABLE + SEVEN_RINGS
 ODD = [maze for maze in ALL_DRAWABLE if len(maze[1]) % 2 == 1]
 EVEN = [maze for maze in ALL_DRAWABLE if len(maze[1]) % 2 == 0]
@@ -120,7 +119,7 @@ class OpenedTest(unittest.TestCase):
         for rings in (1, 3, 5, 7):
             words = words_of_length(rings + 1)
             single = [(left, right) for left in words for right in words if len(plain_rounds(left, right)) == 1]
-            told = [closed((side, order)) for side, order in SHORT_DRAWABLE + SEVEN_RINGS
+            told = [closed((side, order)) for side, order in UP_TO_SEVEN
                     if side == "l" and len(order) == rings]
             self.assertEqual(sorted(told), sorted(single))
 

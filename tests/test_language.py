@@ -131,6 +131,11 @@ class LanguageTest(unittest.TestCase):
             self.assertIsNotNone(ast.get_docstring(tree), path)
             for node in tree.body[1:]:
                 self.assertIsInstance(node, (ast.Assign, ast.FunctionDef, ast.ClassDef, ast.ImportFrom), path)
+                if isinstance(node, ast.Assign):
+                    for part in nodes(node.value, ast.expr):
+                        self.assertIsInstance(part, (ast.Constant, ast.Tuple, ast.List, ast.Dict), (path, node.lineno))
+                        if isinstance(part, (ast.List, ast.Dict)):
+                            self.assertIs(part, node.value, (path, node.lineno))
 
     def test_names(self):
         for path, tree in self.trees.items():

@@ -4,17 +4,14 @@ import copy
 import itertools
 import unittest
 
-from samples import (LONG_PAIRS, LONG_WORDS, NO_PAIRS, NO_WORDS, SHORT_PAIRS, SIXTY_FIGURES, THINGS, plain_rounds,
+from samples import (LONG_PAIRS, LONG_WORDS, NO_NUMBERS, NO_PAIRS, NO_WORDS, SHORT_PAIRS, SIXTY_FIGURES, plain_rounds,
                      words_of_length)
 from ringmaze.brackets import is_word, pairs
 from ringmaze.errors import Crossed, NoBow, NoWord
 from ringmaze.rounds import rounds
 from ringmaze.turns import cut_out, laid_in, turned
-from ringmaze.words import is_whole
 
 SHORT_WORDS = [word for length in range(0, 9, 2) for word in words_of_length(length)]
-# Any things that are no number at all; True and False stand for 1 and 0 in careless hands.
-NO_NUMBERS = [thing for thing in THINGS if not is_whole(thing)] + ["0", "1", [0], (0,), [1], (0, 1), [[[[[0]]]]]]
 FAR_NUMBERS = [-1, -2, -40, 41, 100, SIXTY_FIGURES, -SIXTY_FIGURES]
 
 
