@@ -3,6 +3,7 @@
 import copy
 import functools
 import itertools
+import time
 import unittest
 
 from samples import (LONG_CROSSED, LONG_DRAWABLE, NO_MAZES, NO_NUMBERS, NO_SIDES, SHORT_CROSSED, SIXTY_FIGURES, THINGS, UP,
@@ -75,9 +76,11 @@ class CompletionsTest(unittest.TestCase):
                     self.assertEqual(completions(state, rows), texts_that_end(pieces, rows), (state, rows))
 
     def test_up_to_twenty_rows_against_the_next_states(self):
+        told = plain_reached("l", 8) | plain_reached("r", 8)
+        self.assertEqual([state for state in WIDE if state not in told], [])
         for state in WIDE:
-            for rows in list(range(1, 15)) + [20]:
-                reached = [step(state, letter) for letter in "abcd"]
+            reached = [step(state, letter) for letter in "abcd"]
+            for rows in range(1, 21):
                 expected = sum(completions(ahead, rows - 1) for ahead in reached if ahead is not None)
                 self.assertEqual(completions(state, rows), expected, (state, rows))
                 self.assertGreaterEqual(expected, 1 if rows == 20 else 0)
@@ -100,6 +103,11 @@ class CountTest(unittest.TestCase):
 
     def test_up_to_twenty(self):
         self.assertEqual([count(n) for n in range(21)], COUNTS)
+
+    def test_twenty_rings_in_seconds(self):
+        begin = time.perf_counter()
+        self.assertEqual(count(20), 19304190)
+        self.assertLess(time.perf_counter() - begin, 20)
 
     def test_what_is_no_number_of_rings(self):
         for thing in NO_RINGS:
